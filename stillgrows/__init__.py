@@ -1,0 +1,1 @@
+"""Processions that groups join anywhere, and what can be said of them for ever."""

@@ -1,0 +1,76 @@
+"""What several tests need: a check of errors, and plain searches that take their time."""
+
+import random
+import unittest
+
+from stillgrows.sayings import Saying
+
+
+class GrowsCase(unittest.TestCase):
+    def refuses(self, error, value, call, *args, **more):
+        """Check that the call raises exactly this error with this value."""
+        with self.assertRaises(error) as caught:
+            call(*args, **more)
+        self.assertIs(type(caught.exception), error)
+        self.assertEqual(caught.exception.value, value)
+        self.assertIs(type(caught.exception.value), type(value))
+
+    def same(self, found, wanted):
+        """Check value and class, so that 1 does not pass for True."""
+        self.assertIs(type(found), type(wanted))
+        self.assertEqual(found, wanted)
+
+
+def all_rows(signs, longest):
+    """All rows over the signs with at most `longest` signs, in row order."""
+    rows = [""]
+    level = [""]
+    for _ in range(longest):
+        level = [row + sign for row in level for sign in signs]
+        rows += level
+    return rows
+
+
+def rows_in(saying, longest):
+    """The rows of the saying with at most `longest` signs, in row order."""
+    return [row for row in all_rows(saying.signs, longest) if row in saying]
+
+
+def random_table(rng, signs, size):
+    table = [[rng.randrange(size) for _ in signs] for _ in range(size)]
+    return table, [rng.random() < 0.5 for _ in range(size)]
+
+
+def random_saying(rng, signs, size):
+    return Saying(signs, *random_table(rng, signs, size))
+
+
+def read_by(table, marks, signs, row):
+    """Whether a table leads the row to a mark; reads any table sign by sign."""
+    state = 0
+    for sign in row:
+        state = table[state][signs.index(sign)]
+    return marks[state]
+
+
+def random_joins(rng, start, many, signs="abc", longest=3):
+    """A list of joins that can be made from the start row."""
+    joins = []
+    length = len(start)
+    for _ in range(many):
+        group = "".join(rng.choice(signs) for _ in range(rng.randint(1, longest)))
+        joins.append((rng.randint(0, length), group))
+        length += len(group)
+    return joins
+
+
+def is_shuffle(row, first, second):
+    """Whether the row is a shuffle of the two rows."""
+    if row == "":
+        return first == second == ""
+    return ((first[:1] == row[0] and is_shuffle(row[1:], first[1:], second))
+            or (second[:1] == row[0] and is_shuffle(row[1:], first, second[1:])))
+
+
+def seeded(seed):
+    return random.Random(seed)
