@@ -4,10 +4,10 @@ The operators of sayings call these functions, so none of them changes what it i
 """
 
 
-def reached_states(table):
-    """Return the states that are reached from state 0, in breadth-first order."""
-    order = [0]
-    found = {0: True}
+def reached_states(table, start):
+    """Return the states that are reached from the start, in breadth-first order."""
+    order = [start]
+    found = {start: True}
     at = 0
     while at < len(order):
         entry = table[order[at]]
@@ -21,9 +21,9 @@ def reached_states(table):
 
 def canonical(table, marks):
     """Return the canonical table and its marks, both as tuples."""
-    order = reached_states(table)
-    place = {state: k for k, state in enumerate(order)}
-    trimmed = [[place[state] for state in table[old]] for old in order]
+    order = reached_states(table, 0)
+    place = {old: k for k, old in enumerate(order)}
+    trimmed = [[place[to] for to in table[old]] for old in order]
     blocks = block_numbers(trimmed, [marks[old] for old in order])
     # The trimmed states stand in the order in which they are first reached, so the
     # first state of each block is the one by which the block is first reached.
@@ -33,17 +33,19 @@ def canonical(table, marks):
         if block not in number:
             number[block] = len(firsts)
             firsts.append(state)
-    merged = [tuple([number[blocks[to]] for to in trimmed[state]]) for state in firsts]
-    return tuple(merged), tuple([marks[order[state]] for state in firsts])
+    merged = [tuple([number[blocks[to]] for to in trimmed[first]]) for first in firsts]
+    return tuple(merged), tuple([marks[order[first]] for first in firsts])
 
 
 def sources_by_column(table):
     """Return for each sign and each state the list of the states that the sign leads there."""
-    sources = [[[] for _ in table] for _ in table[0]]
-    for state, entry in enumerate(table):
-        for column, to in enumerate(entry):
-            sources[column][to].append(state)
-    return sources
+    columns = []
+    for column in range(len(table[0])):
+        sources = [[] for _ in table]
+        for state, entry in enumerate(table):
+            sources[entry[column]].append(state)
+        columns.append(sources)
+    return columns
 
 
 def hits_by_block(members, sources, blocks):
@@ -64,7 +66,7 @@ def block_numbers(table, marks):
     This is Hopcroft's algorithm: its time grows little faster than the table, also
     where rounds over all states would be as many as the states.
     """
-    sources = sources_by_column(table)
+    columns = sources_by_column(table)
     blocks = [0 if mark else 1 for mark in marks]
     marked = [state for state, mark in enumerate(marks) if mark]
     # A state that has left a block stays in its list until the block is taken up.
@@ -77,8 +79,8 @@ def block_numbers(table, marks):
         waits[splitter] = False
         members = [state for state in lists[splitter] if blocks[state] == splitter]
         lists[splitter] = members
-        for column in sources:
-            hits = hits_by_block(members, column, blocks)
+        for sources in columns:
+            hits = hits_by_block(members, sources, blocks)
             divided = [block for block in hits if len(hits[block]) < sizes[block]]
             for block in divided:
                 fresh = len(lists)

@@ -3,6 +3,7 @@
 import random
 import unittest
 
+from stillgrows.growths import Growth
 from stillgrows.sayings import Saying
 
 
@@ -64,12 +65,13 @@ def random_joins(rng, start, many, signs="abc", longest=3):
     return joins
 
 
-def is_shuffle(row, first, second):
-    """Whether the row is a shuffle of the two rows."""
-    if row == "":
-        return first == second == ""
-    return ((first[:1] == row[0] and is_shuffle(row[1:], first[1:], second))
-            or (second[:1] == row[0] and is_shuffle(row[1:], first, second[1:])))
+def some_growths(seed):
+    """Random growths, among them growths without joins and from the empty row."""
+    rng = seeded(seed)
+    for start in ("", "a", "ab", "abca"):
+        for many in (0, 1, 2, 3, 6, 20):
+            for _ in range(6):
+                yield Growth(start, random_joins(rng, start, many))
 
 
 def seeded(seed):

@@ -1,17 +1,9 @@
 import unittest
 
-from helpers import GrowsCase, random_joins, seeded
+from helpers import GrowsCase, some_growths
 from stillgrows.apart import exchanged, gap_growths, gap_words, in_order, woven
 from stillgrows.errors import DoNotMeet, WrongCount
 from stillgrows.growths import Growth
-
-
-def some_growths():
-    rng = seeded(12)
-    for start in ("", "a", "ab", "abca"):
-        for many in (0, 1, 2, 3, 6, 15):
-            for _ in range(6):
-                yield Growth(start, random_joins(rng, start, many))
 
 
 def made_joins(growth):
@@ -40,13 +32,13 @@ class TestGaps(GrowsCase):
         self.assertEqual(gap_words(Growth("aa", [(0, "aa"), (4, "a")])), ["aa", "", "a"])
 
     def test_words_and_start_row_make_the_end_row(self):
-        for growth in some_growths():
+        for growth in some_growths(12):
             words = gap_words(growth)
             self.assertEqual(len(words), len(growth.start) + 1)
             self.assertEqual(words[0] + "".join(s + w for s, w in zip(growth.start, words[1:])), growth.row)
 
     def test_each_growth_of_a_gap_makes_its_word(self):
-        for growth in some_growths():
+        for growth in some_growths(12):
             parts = gap_growths(growth)
             self.assertEqual([part.start for part in parts], [""] * (len(growth.start) + 1))
             self.assertEqual([part.row for part in parts], gap_words(growth))
@@ -61,7 +53,7 @@ class TestWoven(GrowsCase):
         self.assertEqual(woven("", [Growth("")]), Growth(""))
 
     def test_its_growths_of_the_gaps_are_the_given_ones(self):
-        for growth in some_growths():
+        for growth in some_growths(12):
             parts = gap_growths(growth)
             whole = woven(growth.start, parts)
             self.assertEqual((whole.start, whole.row), (growth.start, growth.row))
@@ -116,7 +108,7 @@ class TestInOrder(GrowsCase):
         self.assertEqual(in_order(Growth("")), Growth(""))
 
     def test_the_same_joins_with_ascending_gaps(self):
-        for growth in some_growths():
+        for growth in some_growths(12):
             found = in_order(growth)
             gaps = [gap for gap, _ in found]
             self.assertEqual((found.start, found.row), (growth.start, growth.row))

@@ -2,19 +2,10 @@ import inspect
 import operator
 import unittest
 
-from helpers import GrowsCase, random_joins, seeded
+from helpers import GrowsCase, some_growths
 from stillgrows.errors import DoNotMeet, GapOutOfRange, InvalidGroup, InvalidText
 from stillgrows.growths import Growth
 from stillgrows.lots import Lot
-
-
-def some_growths():
-    rng = seeded(11)
-    growths = [Growth(""), Growth("ab"), Growth("", [(0, "a")])]
-    for start in ("", "a", "abba"):
-        for many in (1, 2, 5, 20):
-            growths.append(Growth(start, random_joins(rng, start, many)))
-    return growths
 
 
 class TestMaking(GrowsCase):
@@ -77,7 +68,7 @@ class TestRows(GrowsCase):
         self.assertEqual(Growth("", [(0, "ab"), (0, "cd")]).owners(), [(2, 1), (2, 2), (1, 1), (1, 2)])
 
     def test_owners_name_the_signs_of_the_end_row(self):
-        for growth in some_growths():
+        for growth in some_growths(11):
             parts = [growth.start] + [group for _, group in growth.joins]
             owners = growth.owners()
             self.assertEqual("".join(parts[owner][place - 1] for owner, place in owners), growth.row)
@@ -146,7 +137,7 @@ class TestOperators(GrowsCase):
         self.assertEqual([Growth("ab") << 1, Growth("ab") >> 1], [Growth("ab"), Growth("ab")])
 
     def test_the_two_parts_make_the_whole(self):
-        for growth in some_growths():
+        for growth in some_growths(11):
             many = len(growth)
             for k in range(many + 1):
                 self.assertEqual((growth << (many - k)) + (growth >> k), growth)
@@ -171,7 +162,7 @@ class TestOtherGrowths(GrowsCase):
         self.assertEqual(Growth("ab", [(0, "c")]).turned(), Growth("ba", [(2, "c")]))
 
     def test_turned_turns_every_row(self):
-        for growth in some_growths():
+        for growth in some_growths(11):
             self.assertEqual(list(growth.turned().stages()), [row[::-1] for row in growth.stages()])
             self.assertEqual(growth.turned().turned(), growth)
 
@@ -189,7 +180,7 @@ class TestTexts(GrowsCase):
         self.assertEqual(Growth("a" * 12, [(12, "b"), (10, "c")]).text(), "aaaaaaaaaaaa: 12 b, 10 c")
 
     def test_each_growth_is_read_back(self):
-        for growth in some_growths():
+        for growth in some_growths(11):
             self.assertEqual(Growth.read(growth.text()), growth)
 
     def test_texts_that_are_refused(self):

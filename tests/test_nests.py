@@ -1,19 +1,11 @@
 import itertools
 import unittest
 
-from helpers import GrowsCase, random_joins, seeded
+from helpers import GrowsCase, some_growths
 from stillgrows.apart import in_order
 from stillgrows.errors import InvalidText
 from stillgrows.growths import Growth
 from stillgrows.nests import bracketed, depth, parents, read_bracketed
-
-
-def some_growths():
-    rng = seeded(13)
-    for start in ("", "a", "abc"):
-        for many in (0, 1, 2, 3, 7, 20):
-            for _ in range(8):
-                yield Growth(start, random_joins(rng, start, many))
 
 
 def insides(growth):
@@ -58,7 +50,7 @@ class TestBracketed(GrowsCase):
         self.assertEqual(read_bracketed("(a(b)c(d)e)f").text(), "f: 0 ace, 1 b, 3 d")
 
     def test_each_growth_in_order_is_read_back(self):
-        for growth in some_growths():
+        for growth in some_growths(13):
             self.assertEqual(read_bracketed(bracketed(growth)), in_order(growth))
 
     def test_all_short_texts(self):
@@ -85,7 +77,7 @@ class TestParents(GrowsCase):
         self.assertEqual(parents(Growth.read(": 0 a, 0 bc, 1 d")), [None, None, 1])
 
     def test_against_the_words_of_point_27(self):
-        for growth in some_growths():
+        for growth in some_growths(13):
             around = insides(growth)
             wanted = [max(others, key=lambda other: len(around[other]), default=None) for others in around]
             self.assertEqual(parents(growth), wanted)

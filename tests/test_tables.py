@@ -4,33 +4,39 @@ from helpers import all_rows, random_table, read_by, seeded
 from stillgrows import tables
 
 
-def parted(table, marks, first, second):
-    """Whether some row leads exactly one of two states to a mark, by a plain search."""
-    seen = {(first, second)}
-    pairs = [(first, second)]
-    for p, q in pairs:
-        if marks[p] != marks[q]:
-            return True
-        for pair in zip(table[p], table[q]):
-            if pair not in seen:
-                seen.add(pair)
-                pairs.append(pair)
-    return False
+def plain_blocks(table, marks):
+    """Blocks of states that can be merged, found in rounds over all states."""
+    blocks = [int(mark) for mark in marks]
+    for _ in table:
+        forms = [(blocks[state], tuple(blocks[to] for to in entry)) for state, entry in enumerate(table)]
+        numbers = {form: at for at, form in enumerate(dict.fromkeys(forms))}
+        blocks = [numbers[form] for form in forms]
+    return blocks
+
+
+def by_first(blocks):
+    """The blocks, numbered in the order of their first states."""
+    numbers = {block: at for at, block in enumerate(dict.fromkeys(blocks))}
+    return [numbers[block] for block in blocks]
 
 
 class TestTables(unittest.TestCase):
     def test_reached_states_breadth_first(self):
-        self.assertEqual(tables.reached_states([[3, 2], [0, 0], [2, 4], [3, 2], [0, 4]]), [0, 3, 2, 4])
+        table = [[3, 2], [0, 0], [2, 4], [3, 2], [0, 4]]
+        self.assertEqual(tables.reached_states(table, 0), [0, 3, 2, 4])
+        self.assertEqual(tables.reached_states(table, 2), [2, 4, 0, 3])
 
     def test_blocks_hold_the_states_that_can_be_merged(self):
         rng = seeded(3)
-        for signs in ("a", "ab", "abc"):
-            for size in range(1, 13):
-                table, marks = random_table(rng, signs, size)
-                blocks = tables.block_numbers(table, marks)
-                for p in range(size):
-                    for q in range(size):
-                        self.assertEqual(blocks[p] != blocks[q], parted(table, marks, p, q))
+        for signs in ("a", "ab", "abcd"):
+            for size in range(1, 31):
+                for _ in range(20):
+                    table, marks = random_table(rng, signs, size)
+                    if rng.random() < 0.7:
+                        # Few marks part the states slowly.
+                        marks = [rng.random() < 0.1 for _ in range(size)]
+                    found = tables.block_numbers(table, marks)
+                    self.assertEqual(by_first(found), by_first(plain_blocks(table, marks)))
 
     def test_canonical_tables_hold_the_same_rows(self):
         rng = seeded(4)
@@ -39,6 +45,11 @@ class TestTables(unittest.TestCase):
             found, found_marks = tables.canonical(table, marks)
             for row in all_rows("ab", 7):
                 self.assertEqual(read_by(found, found_marks, "ab", row), read_by(table, marks, "ab", row))
+
+    def test_pairs_breadth_first(self):
+        pairs, table = tables.paired(((1, 0), (1, 1)), ((0, 1), (1, 0)))
+        self.assertEqual(pairs, [(0, 0), (1, 0), (0, 1), (1, 1)])
+        self.assertEqual(table, [[1, 2], [1, 3], [3, 0], [3, 1]])
 
     def test_a_ring_as_long_as_two_great_ones(self):
         # Each round over all states would part off one state only.

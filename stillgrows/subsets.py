@@ -1,0 +1,65 @@
+"""Sayings from tables in which a sign can lead a state to several states or to none.
+
+A set of states is kept as a mask: an integer whose bit with the value 1 << state is set
+for each state of the set.
+"""
+
+from stillgrows.sayings import Saying
+
+PIECE = 8
+PIECE_MASK = 255
+
+
+def mask_of(states):
+    """Return the mask of a list of states, which may have duplicates."""
+    mask = 0
+    for state in states:
+        mask = mask | (1 << state)
+    return mask
+
+
+def union_tables(masks):
+    """Return, for each eight of the masks, the unions of all choices among them.
+
+    The union of a choice stands at the index that is the mask of the choice, so that the
+    masks of a whole set of states are united eight at once.
+    """
+    tables = []
+    for low in range(0, len(masks), PIECE):
+        unions = [0]
+        for mask in masks[low:low + PIECE]:
+            unions = unions + [union | mask for union in unions]
+        tables.append(unions)
+    return tables
+
+
+def union_at(tables, states):
+    """Return the union of the masks of the states, by the tables of these masks."""
+    union = 0
+    for unions in tables:
+        union = union | unions[states & PIECE_MASK]
+        states = states >> PIECE
+    return union
+
+
+def saying_of_masks(signs, starts, moves, marks):
+    """Return the saying of the rows that can lead a state of `starts` to a state of `marks`.
+
+    `starts` and `marks` are masks. `moves` has one list for each sign, with the mask of
+    the states to which the sign can lead each state.
+    """
+    steps = [union_tables(masks) for masks in moves]
+    sets = [starts]
+    number = {starts: 0}
+    table = []
+    while len(table) < len(sets):
+        states = sets[len(table)]
+        entry = []
+        for tables in steps:
+            after = union_at(tables, states)
+            if after not in number:
+                number[after] = len(sets)
+                sets.append(after)
+            entry.append(number[after])
+        table.append(entry)
+    return Saying(signs, table, [states & marks != 0 for states in sets])

@@ -1,0 +1,104 @@
+"""That every name of the interface stands where the document lists it, and in which form."""
+
+import ast
+import importlib
+import inspect
+import pathlib
+import unittest
+
+import stillgrows
+
+FUNCTIONS = {
+    "words": ["check_signs(signs)", "check_group(group)", "check_row(row, signs)", "turned(row)",
+              "renamed(row, old, new)", "rows_up_to(signs, longest)"],
+    "apart": ["gap_words(growth)", "gap_growths(growth)", "woven(start, growths)", "exchanged(first, second)",
+              "in_order(growth)"],
+    "nests": ["bracketed(growth)", "read_bracketed(text)", "parents(growth)", "depth(growth)"],
+    "leaves": ["places(row, group)", "leave(row, gap, group)", "leavings(row, lot)", "residue(row, lot)"],
+    "derive": ["fewest_joins(start, target, lot)", "count_growths(start, target, lot)",
+               "find_growth(start, target, lot, *, most=None)", "comes(start, target, lot, *, most=None)"],
+    "rules": ["all_rules(*, side=None, order=None, link=None)"],
+    "placing": ["layout(rule, start, calls)", "row_of(rule, start, calls)", "anchor_at(rule, signs_there, gap)",
+                "growth_from(rule, start, calls, more)"],
+    "judging": ["keeps_whole(rule)", "keeps_open(rule)", "mixing_example(rule)", "closed_example(rule)"],
+    "patterns": ["read_pattern(text)", "pattern_text(tree)"],
+    "making": ["followed(first, *rest)", "repeated(saying)", "shuffled(first, second)", "unshuffled(saying, other)",
+               "turned_saying(saying)", "holding(signs, row)", "scattering(signs, row)"],
+}
+METHODS = {
+    ("sayings", "Saying"): ["__init__(self, signs, table, marks)", "full(signs)", "void(signs)", "single(signs, row)",
+                            "read(text)", "step(self, state, sign)", "state_after(self, row, state=0)",
+                            "renamed(self, old, new)", "text(self)", "__and__(self, other)", "__or__(self, other)",
+                            "__sub__(self, other)", "__xor__(self, other)", "__invert__(self)",
+                            "__le__(self, other)", "__eq__(self, other)", "__contains__(self, row)",
+                            "__floordiv__(self, row)"],
+    ("lots", "Lot"): ["__init__(self, groups)", "of(*groups)", "read(text)", "turned(self)", "renamed(self, old, new)",
+                      "scattered(self)", "text(self)", "__or__(self, other)", "__and__(self, other)",
+                      "__sub__(self, other)", "__le__(self, other)", "__eq__(self, other)",
+                      "__contains__(self, group)", "__len__(self)", "__iter__(self)", "__abs__(self)"],
+    ("growths", "Growth"): ["__init__(self, start, joins=())", "stages(self)", "owners(self)",
+                            "renamed(self, old, new)", "turned(self)", "text(self)", "read(text)", "__len__(self)",
+                            "__iter__(self)", "__getitem__(self, at)", "__eq__(self, other)", "__add__(self, other)",
+                            "__lshift__(self, k)", "__rshift__(self, k)", "__abs__(self)"],
+    ("stamps", "Stamp"): ["__init__(self, clock, station, number)", "__eq__(self, other)", "__lt__(self, other)"],
+    ("calls", "Call"): ["__init__(self, station, seen, group, anchor=(None, 0))", "__eq__(self, other)", "text(self)",
+                        "read(text)"],
+    ("rules", "Rule"): ["__init__(self, side='after', order='newest', link='whole')", "__eq__(self, other)",
+                        "__invert__(self)", "text(self)", "read(text)"],
+}
+PROPERTIES = {
+    ("sayings", "Saying"): ["size", "is_void"],
+    ("lots", "Lot"): ["letters", "longest"],
+    ("growths", "Growth"): ["row"],
+    ("calls", "Call"): ["stamp"],
+}
+FOLDER = pathlib.Path(stillgrows.__file__).parent
+
+
+def module(name):
+    return importlib.import_module("stillgrows." + name)
+
+
+class TestInterface(unittest.TestCase):
+    def test_functions_stand_in_their_files(self):
+        for name, forms in FUNCTIONS.items():
+            for form in forms:
+                function = getattr(module(name), form.partition("(")[0])
+                self.assertEqual(function.__module__, "stillgrows." + name)
+                self.assertEqual(function.__name__ + str(inspect.signature(function)), form)
+
+    def test_methods_stand_in_their_classes(self):
+        for (name, kind), forms in METHODS.items():
+            found = getattr(module(name), kind)
+            self.assertEqual(found.__module__, "stillgrows." + name)
+            for form in forms:
+                method = form.partition("(")[0]
+                self.assertIn(method, vars(found))
+                self.assertEqual(method + str(inspect.signature(getattr(found, method))), form)
+
+    def test_properties_stand_in_their_classes(self):
+        for (name, kind), names in PROPERTIES.items():
+            for found in names:
+                self.assertIsInstance(vars(getattr(module(name), kind))[found], property)
+
+    def test_the_package_imports_only_its_own_modules(self):
+        for file in FOLDER.glob("*.py"):
+            for node in ast.walk(ast.parse(file.read_text())):
+                self.assertNotIsInstance(node, ast.Import, file.name)
+                if isinstance(node, ast.ImportFrom):
+                    self.assertTrue(node.module.startswith("stillgrows."), file.name)
+
+    def test_files_lines_and_functions_are_short(self):
+        for file in FOLDER.glob("*.py"):
+            text = file.read_text()
+            lines = text.splitlines()
+            self.assertLess(len(lines), 400, file.name)
+            self.assertLessEqual(max(len(line) for line in lines), 120, file.name)
+            self.assertTrue(all(" " <= sign <= "~" or sign == "\n" for sign in text), file.name)
+            for node in ast.walk(ast.parse(text)):
+                if isinstance(node, ast.FunctionDef):
+                    self.assertLessEqual(node.end_lineno - node.lineno + 1, 40, node.name)
+
+
+if __name__ == "__main__":
+    unittest.main()
