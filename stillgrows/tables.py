@@ -3,6 +3,8 @@
 The operators of sayings call these functions, so none of them changes what it is passed.
 """
 
+MOST_ROUNDS = 30
+
 
 def reached_states(table, start):
     """Return the states that are reached from the start, in breadth-first order."""
@@ -37,55 +39,82 @@ def canonical(table, marks):
     return tuple(merged), tuple([marks[order[first]] for first in firsts])
 
 
+def grouped(numbers, many):
+    """Return, for each number below `many`, the ascending list of the indexes that have it.
+
+    The indexes are brought side by side by sorting and cut apart, because an operator may
+    not put them one by one into lists that stand in another list.
+    """
+    width = len(numbers)
+    ordered = sorted([int(number * width + at) for at, number in enumerate(numbers)])
+    counts = [0 for _ in range(many)]
+    for number in numbers:
+        counts[number] = counts[number] + 1
+    groups = []
+    begin = 0
+    for count in counts:
+        groups.append([code % width for code in ordered[begin:begin + count]])
+        begin = begin + count
+    return groups
+
+
 def sources_by_column(table):
     """Return for each sign and each state the list of the states that the sign leads there."""
-    columns = []
-    for column in range(len(table[0])):
-        sources = [[] for _ in table]
-        for state, entry in enumerate(table):
-            sources[entry[column]].append(state)
-        columns.append(sources)
-    return columns
+    return [grouped([entry[column] for entry in table], len(table)) for column in range(len(table[0]))]
 
 
 def hits_by_block(members, sources, blocks):
     """Return, for each block that has some, the list of its states that lead to a member."""
-    hits = {}
-    for member in members:
-        for state in sources[member]:
-            block = blocks[state]
-            if block not in hits:
-                hits[block] = []
-            hits[block].append(state)
-    return hits
+    states = [state for member in members for state in sources[member]]
+    places = {}
+    for state in states:
+        if blocks[state] not in places:
+            places[blocks[state]] = len(places)
+    if len(places) == 1:
+        return {block: states for block in places}
+    groups = grouped([places[blocks[state]] for state in states], len(places))
+    return {block: [states[at] for at in groups[place]] for block, place in places.items()}
 
 
-def block_numbers(table, marks):
-    """Return a block for each state; in one block are the states that can be merged.
+def refined(columns, blocks):
+    """Return blocks of the states that agree in their block and in the blocks behind each sign.
 
-    This is Hopcroft's algorithm: its time grows little faster than the table, also
-    where rounds over all states would be as many as the states.
+    The columns have the next states of all states, one column for each sign.
+    """
+    behind = [[blocks[to] for to in column] for column in columns]
+    numbers = {}
+    finer = []
+    for form in zip(blocks, *behind):
+        if form not in numbers:
+            numbers[form] = len(numbers)
+        finer.append(numbers[form])
+    return finer
+
+
+def divided_blocks(table, blocks):
+    """Return the blocks divided until the states of one block can be merged.
+
+    This is Hopcroft's algorithm, which needs no rounds over all states.
     """
     columns = sources_by_column(table)
-    blocks = [0 if mark else 1 for mark in marks]
-    marked = [state for state, mark in enumerate(marks) if mark]
+    parts = list(blocks)
     # A state that has left a block stays in its list until the block is taken up.
-    lists = [marked, [state for state, mark in enumerate(marks) if not mark]]
-    sizes = [len(marked), len(marks) - len(marked)]
-    waiting = [0, 1]
-    waits = [True, True]
+    lists = list(grouped(blocks, len(set(blocks))))
+    sizes = [len(states) for states in lists]
+    waiting = [block for block in range(len(lists))]
+    waits = [True for _ in lists]
     while waiting:
         splitter = waiting.pop()
         waits[splitter] = False
-        members = [state for state in lists[splitter] if blocks[state] == splitter]
+        members = [state for state in lists[splitter] if parts[state] == splitter]
         lists[splitter] = members
         for sources in columns:
-            hits = hits_by_block(members, sources, blocks)
+            hits = hits_by_block(members, sources, parts)
             divided = [block for block in hits if len(hits[block]) < sizes[block]]
             for block in divided:
                 fresh = len(lists)
                 for state in hits[block]:
-                    blocks[state] = fresh
+                    parts[state] = fresh
                 lists.append(hits[block])
                 sizes.append(len(hits[block]))
                 sizes[block] = sizes[block] - sizes[fresh]
@@ -93,7 +122,23 @@ def block_numbers(table, marks):
                 added = fresh if waits[block] or sizes[fresh] <= sizes[block] else block
                 waits[added] = True
                 waiting.append(added)
-    return blocks
+    return parts
+
+
+def block_numbers(table, marks):
+    """Return a block for each state; in one block are the states that can be merged.
+
+    A few rounds over all states settle most tables. Where they do not, there could be
+    as many rounds as states, so the blocks are divided in another way.
+    """
+    columns = [[entry[column] for entry in table] for column in range(len(table[0]))]
+    blocks = refined([], marks)
+    for _ in range(MOST_ROUNDS):
+        finer = refined(columns, blocks)
+        if len(set(finer)) == len(set(blocks)):
+            return blocks
+        blocks = finer
+    return divided_blocks(table, blocks)
 
 
 def paired(first, second):

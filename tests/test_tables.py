@@ -26,6 +26,14 @@ class TestTables(unittest.TestCase):
         self.assertEqual(tables.reached_states(table, 0), [0, 3, 2, 4])
         self.assertEqual(tables.reached_states(table, 2), [2, 4, 0, 3])
 
+    def test_grouped(self):
+        self.assertEqual(tables.grouped([2, 0, 2, 2, 0], 4), [[1, 4], [], [0, 2, 3], []])
+        self.assertEqual(tables.grouped([], 2), [[], []])
+        self.assertEqual(tables.grouped([], 0), [])
+
+    def test_sources(self):
+        self.assertEqual(tables.sources_by_column([[1, 0], [1, 2], [0, 2]]), [[[2], [0, 1], []], [[0], [], [1, 2]]])
+
     def test_blocks_hold_the_states_that_can_be_merged(self):
         rng = seeded(3)
         for signs in ("a", "ab", "abcd"):
@@ -35,8 +43,9 @@ class TestTables(unittest.TestCase):
                     if rng.random() < 0.7:
                         # Few marks part the states slowly.
                         marks = [rng.random() < 0.1 for _ in range(size)]
-                    found = tables.block_numbers(table, marks)
-                    self.assertEqual(by_first(found), by_first(plain_blocks(table, marks)))
+                    wanted = by_first(plain_blocks(table, marks))
+                    self.assertEqual(by_first(tables.block_numbers(table, marks)), wanted)
+                    self.assertEqual(by_first(tables.divided_blocks(table, by_first(marks))), wanted)
 
     def test_canonical_tables_hold_the_same_rows(self):
         rng = seeded(4)
@@ -56,6 +65,16 @@ class TestTables(unittest.TestCase):
         table = [[(state + 1) % 3540] for state in range(3540)]
         found, _ = tables.canonical(table, [state == 0 for state in range(3540)])
         self.assertEqual(len(found), 3540)
+
+    def test_what_a_few_rounds_leave_is_divided_too(self):
+        for size in (2, 29, 30, 31, 32, 33, 59, 60, 61, 200):
+            # The states of such a chain are parted one in each round, from its end on.
+            table = [[min(state + 1, size - 1)] for state in range(size)]
+            marks = [state == size - 1 for state in range(size)]
+            self.assertEqual(tables.canonical(table, marks), (tuple(map(tuple, table)), tuple(marks)))
+            twice = [[2 * to, 2 * to + 1] for (to,) in table for _ in "ab"]
+            found, found_marks = tables.canonical(twice, [mark for mark in marks for _ in "ab"])
+            self.assertEqual((len(found), sum(found_marks)), (size, 1))
 
 
 if __name__ == "__main__":
