@@ -1,13 +1,8 @@
 """Sayings made from other sayings, row by row."""
 
 from stillgrows.sayings import Saying, check_same_signs
-from stillgrows.subsets import mask_of, saying_of_masks
+from stillgrows.subsets import marked_mask, mask_of, saying_of_masks
 from stillgrows.tables import reached_states, sources_by_column
-
-
-def marked_mask(saying):
-    """Return the mask of the marked states."""
-    return mask_of([state for state, mark in enumerate(saying.marks) if mark])
 
 
 def entering_masks(saying, begin, added):

@@ -18,6 +18,26 @@ def mask_of(states):
     return mask
 
 
+def states_of(mask):
+    """Return the ascending list of the states of a mask."""
+    states = []
+    while mask:
+        lowest = mask & -mask
+        states.append(lowest.bit_length() - 1)
+        mask = mask ^ lowest
+    return states
+
+
+def marked_mask(saying):
+    """Return the mask of the marked states."""
+    return mask_of([state for state, mark in enumerate(saying.marks) if mark])
+
+
+def columns_of(saying):
+    """Return for each sign the list with the mask of the state behind it, for each state."""
+    return [[1 << entry[column] for entry in saying.table] for column in range(len(saying.signs))]
+
+
 def union_tables(masks):
     """Return, for each eight of the masks, the unions of all choices among them.
 

@@ -3,7 +3,7 @@
 The operators of sayings call these functions, so none of them changes what it is passed.
 """
 
-MOST_ROUNDS = 30
+MOST_ROUNDS = 40
 
 
 def reached_states(table, start):
@@ -76,30 +76,29 @@ def hits_by_block(members, sources, blocks):
     return {block: [states[at] for at in groups[place]] for block, place in places.items()}
 
 
-def refined(columns, blocks):
-    """Return blocks of the states that agree in their block and in the blocks behind each sign.
+def numbered(columns):
+    """Return the number of each row of the columns, and how many different rows there are.
 
-    The columns have the next states of all states, one column for each sign.
+    Equal rows have one number; the numbers are in the order in which they are first found.
     """
-    behind = [[blocks[to] for to in column] for column in columns]
     numbers = {}
-    finer = []
-    for form in zip(blocks, *behind):
+    found = []
+    for form in zip(*columns):
         if form not in numbers:
             numbers[form] = len(numbers)
-        finer.append(numbers[form])
-    return finer
+        found.append(numbers[form])
+    return found, len(numbers)
 
 
-def divided_blocks(table, blocks):
-    """Return the blocks divided until the states of one block can be merged.
+def divided_blocks(table, blocks, many):
+    """Return the blocks, so many, divided until the states of one block can be merged.
 
     This is Hopcroft's algorithm, which needs no rounds over all states.
     """
     columns = sources_by_column(table)
     parts = list(blocks)
     # A state that has left a block stays in its list until the block is taken up.
-    lists = list(grouped(blocks, len(set(blocks))))
+    lists = list(grouped(blocks, many))
     sizes = [len(states) for states in lists]
     waiting = [block for block in range(len(lists))]
     waits = [True for _ in lists]
@@ -128,17 +127,34 @@ def divided_blocks(table, blocks):
 def block_numbers(table, marks):
     """Return a block for each state; in one block are the states that can be merged.
 
-    A few rounds over all states settle most tables. Where they do not, there could be
-    as many rounds as states, so the blocks are divided in another way.
+    In each round a block is divided where the signs lead its states to different blocks.
+    Mostly a few rounds are enough. If they are not, there could be as many rounds as
+    states, so what is left is divided in another way.
     """
     columns = [[entry[column] for entry in table] for column in range(len(table[0]))]
-    blocks = refined([], marks)
-    for _ in range(MOST_ROUNDS):
-        finer = refined(columns, blocks)
-        if len(set(finer)) == len(set(blocks)):
+    kinds, mixed_blocks = numbered([marks])
+    blocks = list(kinds)
+    unused = mixed_blocks
+    # A state that is alone in its block needs no more rounds.
+    mixed = list(range(len(table)))
+    visits = 0
+    while visits <= MOST_ROUNDS * len(table):
+        visits = visits + len(mixed)
+        forms = [[blocks[state] for state in mixed]]
+        for column in columns:
+            forms.append([blocks[column[state]] for state in mixed])
+        found, many = numbered(forms)
+        if many == mixed_blocks:
             return blocks
-        blocks = finer
-    return divided_blocks(table, blocks)
+        sizes = [0 for _ in range(many)]
+        for state, number in zip(mixed, found):
+            sizes[number] = sizes[number] + 1
+            blocks[state] = unused + number
+        mixed = [state for state, number in zip(mixed, found) if sizes[number] > 1]
+        mixed_blocks = many - sizes.count(1)
+        unused = unused + many
+    dense, many = numbered([blocks])
+    return divided_blocks(table, dense, many)
 
 
 def paired(first, second):

@@ -4,6 +4,7 @@ import random
 import unittest
 
 from stillgrows.growths import Growth
+from stillgrows.lots import Lot
 from stillgrows.sayings import Saying
 
 
@@ -72,6 +73,62 @@ def some_growths(seed):
         for many in (0, 1, 2, 3, 6, 20):
             for _ in range(6):
                 yield Growth(start, random_joins(rng, start, many))
+
+
+def random_lot(rng, signs, many, longest):
+    """A lot of at most so many groups."""
+    return Lot(["".join(rng.choice(signs) for _ in range(rng.randint(1, longest))) for _ in range(many)])
+
+
+def permuting(rng, signs, size):
+    """A saying each sign of which permutes the states; the first one leads them in one circle."""
+    columns = [[(state + 1) % size for state in range(size)]]
+    columns += [rng.sample(range(size), size) for _ in signs[1:]]
+    return Saying(signs, list(zip(*columns)), [state == size - 1 for state in range(size)])
+
+
+def joined(row, groups):
+    """The rows after one join."""
+    return {row[:gap] + group + row[gap:] for gap in range(len(row) + 1) for group in groups}
+
+
+def without_one(row, groups):
+    """The rows after one leaving."""
+    return {row[:gap] + row[gap + len(group):] for group in groups for gap in range(len(row))
+            if row.startswith(group, gap)}
+
+
+def grown(row, groups, longest):
+    """All rows of at most so many signs to which the row grows, in row order."""
+    found = {row}
+    level = [row]
+    while level:
+        level = [other for other in {after for before in level for after in joined(before, groups)}
+                 if len(other) <= longest and other not in found]
+        found.update(level)
+    return sorted(found, key=lambda other: (len(other), other))
+
+
+def plain_closure(moves, groups, signs, table):
+    """The least closed table that contains the table, found in rounds over all states and groups."""
+    entries = [set(entry) | {state} for state, entry in enumerate(table)]
+    changed = True
+    while changed:
+        changed = False
+        for state in range(len(entries)):
+            for group in groups:
+                ends = set(entries[state])
+                for sign in group:
+                    behind = {to for end in ends for to in moves[end][signs.index(sign)]}
+                    ends = {to for end in behind for to in entries[end]}
+                if not ends <= entries[state]:
+                    entries[state] |= ends
+                    changed = True
+    return tuple(tuple(sorted(entry)) for entry in entries)
+
+
+def moves_of(saying):
+    return [[(to,) for to in entry] for entry in saying.table]
 
 
 def seeded(seed):

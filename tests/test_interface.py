@@ -24,6 +24,16 @@ FUNCTIONS = {
     "patterns": ["read_pattern(text)", "pattern_text(tree)"],
     "making": ["followed(first, *rest)", "repeated(saying)", "shuffled(first, second)", "unshuffled(saying, other)",
                "turned_saying(saying)", "holding(signs, row)", "scattering(signs, row)"],
+    "meanings": ["saying_of(tree, signs)", "saying_of_text(text, signs)"],
+    "firsts": ["first_row(saying)", "parting_row(first, second)", "first_rows(saying, many, *, after=None)",
+               "count_rows(saying, length)", "count_all(saying)", "longest_length(saying)"],
+    "counting": ["never_counts(saying)", "counting_row(saying)", "period(saying, row)"],
+    "closures": ["gap_table(moves, groups, signs)", "closed_over(saying, lot, table)",
+                 "is_closed(saying, lot, table)"],
+    "spreads": ["plain_spread(saying, lot)"],
+    "takeouts": ["one_leaving(saying, lot)", "one_join(saying, lot)", "within_joins(saying, lot, *, most=1)"],
+    "leasts": ["least_saying(saying, lot)", "least_below(saying, lot, row)", "group_free(signs, lot)",
+               "holding_length(signs, lot)"],
 }
 METHODS = {
     ("sayings", "Saying"): ["__init__(self, signs, table, marks)", "full(signs)", "void(signs)", "single(signs, row)",
@@ -45,6 +55,12 @@ METHODS = {
                         "read(text)"],
     ("rules", "Rule"): ["__init__(self, side='after', order='newest', link='whole')", "__eq__(self, other)",
                         "__invert__(self)", "text(self)", "read(text)"],
+    ("classes", "Classes"): ["__init__(self, saying)", "class_of(self, row)", "product(self, *numbers)",
+                             "rows_of(self, number)", "__len__(self)", "__getitem__(self, number)",
+                             "__iter__(self)"],
+    ("spreads", "Spread"): ["__init__(self, signs, starts, moves, marks, gap)", "first(self)",
+                            "after(self, states, sign)", "ends(self, row)", "ends_along(self, row)",
+                            "__eq__(self, other)"],
 }
 PROPERTIES = {
     ("sayings", "Saying"): ["size", "is_void"],
@@ -85,7 +101,9 @@ class TestInterface(unittest.TestCase):
         for file in FOLDER.glob("*.py"):
             for node in ast.walk(ast.parse(file.read_text())):
                 self.assertNotIsInstance(node, ast.Import, file.name)
-                if isinstance(node, ast.ImportFrom):
+                if isinstance(node, ast.ImportFrom) and node.module == "math":
+                    self.assertEqual([alias.name for alias in node.names], ["lcm"], file.name)
+                elif isinstance(node, ast.ImportFrom):
                     self.assertTrue(node.module.startswith("stillgrows."), file.name)
 
     def test_files_lines_and_functions_are_short(self):

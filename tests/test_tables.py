@@ -45,7 +45,7 @@ class TestTables(unittest.TestCase):
                         marks = [rng.random() < 0.1 for _ in range(size)]
                     wanted = by_first(plain_blocks(table, marks))
                     self.assertEqual(by_first(tables.block_numbers(table, marks)), wanted)
-                    self.assertEqual(by_first(tables.divided_blocks(table, by_first(marks))), wanted)
+                    self.assertEqual(by_first(tables.divided_blocks(table, by_first(marks), 2)), wanted)
 
     def test_canonical_tables_hold_the_same_rows(self):
         rng = seeded(4)
@@ -67,7 +67,7 @@ class TestTables(unittest.TestCase):
         self.assertEqual(len(found), 3540)
 
     def test_what_a_few_rounds_leave_is_divided_too(self):
-        for size in (2, 29, 30, 31, 32, 33, 59, 60, 61, 200):
+        for size in (2, 39, 40, 41, 42, 43, 59, 60, 61, 200):
             # The states of such a chain are parted one in each round, from its end on.
             table = [[min(state + 1, size - 1)] for state in range(size)]
             marks = [state == size - 1 for state in range(size)]
