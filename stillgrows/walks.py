@@ -30,6 +30,14 @@ def group_tree(groups, signs):
     return branches, ends
 
 
+def cost_of(levels, state):
+    """Return the cost with which the state stands in masks that are kept by their costs, or None."""
+    for cost, states in levels.items():
+        if states >> state & 1:
+            return cost
+    return None
+
+
 class Walks:
     """The ends of all walks by the least closed table that contains a given one.
 
@@ -41,6 +49,8 @@ class Walks:
     def __init__(self, columns, first, groups, signs, price):
         self.branches, self.groups_at = group_tree(groups, signs)
         self.width = len(self.branches)
+        # For each node the node before it and the column of the sign between them.
+        self.before = {to: (node, column) for node, steps in enumerate(self.branches) for column, to in steps}
         self.price = price
         self.steps = [union_tables(masks) for masks in columns]
         places = len(first) * self.width
@@ -52,7 +62,8 @@ class Walks:
         self.begun = [{} for _ in range(places)]
         # For each state the places that a sign enters by it, with the costs so far.
         self.users = [[] for _ in first]
-        self.waiting = {}
+        # What is still to be taken: for each cost the states by their places.
+        self.batches = {}
         for state, mask in enumerate(first):
             self.put(state * self.width, mask, 0)
         self.settle()
@@ -61,18 +72,18 @@ class Walks:
         """Let the states wait to be taken at the place with this cost."""
         states = states & ~self.known[place]
         if states:
-            batch = self.waiting.setdefault(cost, {})
+            batch = self.batches.setdefault(cost, {})
             batch[place] = batch.get(place, 0) | states
 
     def settle(self):
         """Take what waits, the least costs first, so that each state is taken at its least cost."""
-        while self.waiting:
-            cost = min([int(known) for known in self.waiting])
-            batch = self.waiting[cost]
+        while self.batches:
+            cost = min([int(known) for known in self.batches])
+            batch = self.batches[cost]
             while batch:
                 for place in list(batch):
                     self.take(place, batch.pop(place), cost)
-            self.waiting.pop(cost)
+            self.batches.pop(cost)
 
     def take(self, place, states, cost):
         """Let walks end at the states, and go on from there."""
@@ -108,3 +119,63 @@ class Walks:
     def closed(self):
         """Return the least closed table: for each state the mask of the states in its entry."""
         return self.known[::self.width]
+
+    def cost(self, start, last):
+        """Return the least cost from one state to another one by the table, or None."""
+        return cost_of(self.reached[start * self.width], last)
+
+    def entered_by(self, place, state):
+        """Return a state that the last sign leads to in a walk with the least cost, and the cost so far.
+
+        The walk ends at the state; what is filled in behind the sign leads there.
+        """
+        cost = cost_of(self.reached[place], state)
+        for spent, entered in self.begun[place].items():
+            for behind in states_of(entered):
+                if self.cost(behind, state) == cost - spent:
+                    return behind, spent
+        return None
+
+    def state_before(self, place, behind, spent):
+        """Return a state that is reached with this cost, and from which the last sign leads on."""
+        start, node = divmod(place, self.width)
+        shorter, column = self.before[node]
+        for before in states_of(self.reached[start * self.width + shorter][spent]):
+            if union_at(self.steps[column], 1 << before) >> behind & 1:
+                return before
+        return None
+
+    def parts(self, start, last):
+        """Return the parts of a filling with the least cost between two different states, in order.
+
+        A part is a bracketed piece of a group, or a pair of states that some filling leads
+        the one to the other.
+        """
+        wanted = self.cost(start, last) - self.price
+        place = start * self.width
+        nodes = [node for node, group in enumerate(self.groups_at)
+                 if group and cost_of(self.reached[place + node], last) == wanted]
+        node = nodes[0]
+        group = self.groups_at[node]
+        found = []
+        state = last
+        for at in range(len(group) - 1, -1, -1):
+            behind, spent = self.entered_by(place + node, state)
+            opening = "(" if at == 0 else ""
+            closing = ")" if at == len(group) - 1 else ""
+            found.extend([(behind, state), opening + group[at] + closing])
+            state = self.state_before(place + node, behind, spent)
+            node = self.before[node][0]
+        return [(start, state)] + found[::-1]
+
+    def filling_text(self, start, last):
+        """Return the bracketed text of a filling with the least cost that leads one state to the other."""
+        text = ""
+        waiting = [(start, last)]
+        while waiting:
+            part = waiting.pop()
+            if isinstance(part, str):
+                text = text + part
+            elif part[0] != part[1]:
+                waiting.extend(self.parts(part[0], part[1])[::-1])
+        return text

@@ -34,6 +34,21 @@ FUNCTIONS = {
     "takeouts": ["one_leaving(saying, lot)", "one_join(saying, lot)", "within_joins(saying, lot, *, most=1)"],
     "leasts": ["least_saying(saying, lot)", "least_below(saying, lot, row)", "group_free(signs, lot)",
                "holding_length(signs, lot)"],
+    "costs": ["cost_table(saying, lot)", "gap_growth(saying, lot, start, last)",
+              "cheapest_growth(saying, lot, row, wanted, *, most=None)"],
+    "verdicts": ["verdict(spread, row)", "growth_out(saying, lot, row, *, most=None)",
+                 "growth_in(saying, lot, row, *, most=None)"],
+    "papers": ["paper_of(saying, lot, row)", "carried(saying, paper, row)", "accepts(saying, lot, row, paper)"],
+    "sures": ["sure_of(spread)", "may_of(spread)", "sure_saying(saying, lot)", "never_saying(saying, lot)",
+              "open_saying(saying, lot)", "may_saying(saying, lot)"],
+    "fates": ["yes_saying(saying, lot)", "no_saying(saying, lot)", "fate(saying, lot, row)", "core(saying, lot, row)",
+              "settling_growth(saying, lot, row)", "is_join_blind(saying, lot)"],
+    "chains": ["chain_saying(saying, lot, words)", "shortened(words)", "all_chains()"],
+    "cuts": ["past(call)", "joined_counts(first, *others)", "common_counts(first, *others)",
+             "is_within(counts, other)", "calls_within(calls, counts)", "calls_beyond(calls, counts)",
+             "is_closed_cut(calls, counts)", "known_counts(station, path)", "known_row(station, path)",
+             "known_verdict(station, path, saying)", "shared_counts(station, depth)",
+             "settling_counts(station, saying)", "news_for(station, index)"],
 }
 METHODS = {
     ("sayings", "Saying"): ["__init__(self, signs, table, marks)", "full(signs)", "void(signs)", "single(signs, row)",
@@ -61,12 +76,16 @@ METHODS = {
     ("spreads", "Spread"): ["__init__(self, signs, starts, moves, marks, gap)", "first(self)",
                             "after(self, states, sign)", "ends(self, row)", "ends_along(self, row)",
                             "__eq__(self, other)"],
+    ("papers", "Paper"): ["__init__(self, word, table, sets)", "text(self)", "read(text)", "__eq__(self, other)"],
+    ("stations", "Station"): ["__init__(self, index, count, start, rule, lot)", "layout(self)", "judged_lot(self)",
+                              "tell(self, saying)", "speak(self, gap, group)", "hear(self, *calls)"],
 }
 PROPERTIES = {
     ("sayings", "Saying"): ["size", "is_void"],
     ("lots", "Lot"): ["letters", "longest"],
     ("growths", "Growth"): ["row"],
     ("calls", "Call"): ["stamp"],
+    ("stations", "Station"): ["counts", "heard", "waiting", "row"],
 }
 FOLDER = pathlib.Path(stillgrows.__file__).parent
 
