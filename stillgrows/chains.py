@@ -17,11 +17,12 @@ def check_words(words):
 
 
 def with_word_in_front(plain, word):
-    """Return the shortened chain of "sure" or "may" and of a shortened chain without "not"."""
-    if word in plain[:1]:
-        return plain
-    # "sure", "may", "sure" is the same as "may", "sure", and so are the other words.
-    return plain if len(plain) == 2 else [word] + plain
+    """Return the shortened chain of "sure" or "may" and of a shortened chain without "not".
+
+    A word that the chain has already changes nothing: "sure", "may", "sure" is as good as
+    "may", "sure", and so it is with the words exchanged.
+    """
+    return plain if word in plain else [word] + plain
 
 
 def shortened(words):

@@ -106,7 +106,7 @@ def count_rows(saying, length):
 def count_all(saying):
     """Return the number of rows of the saying, or None if it is endless."""
     longest = longest_length(saying)
-    return None if longest is None else sum(counts_by_length(saying, longest + 1))
+    return None if longest is None else sum(counts_by_length(saying, longest))
 
 
 def longest_length(saying):

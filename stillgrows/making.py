@@ -1,8 +1,8 @@
 """Sayings made from other sayings, row by row."""
 
 from stillgrows.sayings import Saying, check_same_signs
-from stillgrows.subsets import marked_mask, mask_of, saying_of_masks
-from stillgrows.tables import reached_states, sources_by_column
+from stillgrows.subsets import marked_mask, mask_of, saying_of_masks, source_columns
+from stillgrows.tables import reached_states
 
 
 def entering_masks(saying, begin, added):
@@ -88,8 +88,7 @@ def unshuffled(saying, other):
 
 def turned_saying(saying):
     """Return the saying of the rows of the saying read from their ends."""
-    moves = [[mask_of(states) for states in sources] for sources in sources_by_column(saying.table)]
-    return saying_of_masks(saying.signs, marked_mask(saying), moves, 1)
+    return saying_of_masks(saying.signs, marked_mask(saying), source_columns(saying), 1)
 
 
 def holding(signs, row):

@@ -1,9 +1,9 @@
 """The sayings that patterns describe."""
 
 from stillgrows.making import followed, repeated
-from stillgrows.patterns import pattern_text, read_pattern
+from stillgrows.patterns import read_pattern
 from stillgrows.sayings import Saying
-from stillgrows.words import LETTERS, check_row, check_signs
+from stillgrows.words import check_signs
 
 
 def one_sign(signs):
@@ -13,7 +13,11 @@ def one_sign(signs):
 
 
 def meaning(tree, signs):
-    """Return the saying of a tree whose letters are all in the alphabet."""
+    """Return the saying of the tree.
+
+    The parts are gone through in the order of the text, so the first letter in it that is
+    not in the alphabet is the one that is refused.
+    """
     word = tree[0]
     if word == "sign":
         return Saying.single(signs, tree[1])
@@ -39,9 +43,7 @@ def meaning(tree, signs):
 
 def saying_of(tree, signs):
     """Return the saying over the alphabet of the rows that the tree describes."""
-    check_signs(signs)
-    check_row("".join([sign for sign in pattern_text(tree) if sign in LETTERS]), signs)
-    return meaning(tree, signs)
+    return meaning(tree, check_signs(signs))
 
 
 def saying_of_text(text, signs):

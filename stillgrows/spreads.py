@@ -1,6 +1,6 @@
 """Spreads: how sets of states go on while a row is read and grows."""
 
-from stillgrows.closures import check_lot, gap_table
+from stillgrows.closures import gap_table
 from stillgrows.words import check_row
 
 
@@ -58,6 +58,5 @@ class Spread:
 
 def plain_spread(saying, lot):
     """Return the spread of all rows to which a row grows by the lot."""
-    check_lot(lot, saying.signs)
     moves = [[(to,) for to in entry] for entry in saying.table]
     return Spread(saying.signs, (0,), moves, saying.marks, gap_table(moves, lot.groups, saying.signs))

@@ -5,6 +5,7 @@ for each state of the set.
 """
 
 from stillgrows.sayings import Saying
+from stillgrows.tables import sources_by_column
 
 PIECE = 8
 PIECE_MASK = 255
@@ -36,6 +37,11 @@ def marked_mask(saying):
 def columns_of(saying):
     """Return for each sign the list with the mask of the state behind it, for each state."""
     return [[1 << entry[column] for entry in saying.table] for column in range(len(saying.signs))]
+
+
+def source_columns(saying):
+    """Return for each sign the list with the mask of the states before each state."""
+    return [[mask_of(states) for states in sources] for sources in sources_by_column(saying.table)]
 
 
 def union_tables(masks):

@@ -2,8 +2,46 @@
 
 from stillgrows.closures import check_lot
 from stillgrows.sayings import Saying
-from stillgrows.subsets import columns_of, marked_mask, mask_of, saying_of_masks, union_at, union_tables
+from stillgrows.subsets import (columns_of, marked_mask, mask_of, saying_of_masks, source_columns, union_at,
+                                union_tables)
 from stillgrows.walks import Walks, group_tree
+
+# There is one completed set for each set of states: too many for greater sayings.
+MOST_COMPLETED = 16
+
+
+def lost_sets(saying):
+    """Return for each row the mask of all states that it leads to no mark, each mask once."""
+    steps = [union_tables(masks) for masks in source_columns(saying)]
+    found = [((1 << saying.size) - 1) ^ marked_mask(saying)]
+    known = {found[0]: True}
+    at = 0
+    while at < len(found):
+        for tables in steps:
+            before = union_at(tables, found[at])
+            if before not in known:
+                known[before] = True
+                found.append(before)
+        at += 1
+    return found
+
+
+def completed_sets(saying):
+    """Return for each set of states the greatest set from which the same rows lead to a mark.
+
+    No state of a set is led to a mark by a row if the set is contained in the lost set of
+    the row. So the greatest set has the states that are in all lost sets around the set.
+    """
+    many = 1 << saying.size
+    completed = [many - 1] * many
+    for states in lost_sets(saying):
+        completed[states] = states
+    for state in range(saying.size):
+        bit = 1 << state
+        for states in range(many):
+            if states & bit == 0:
+                completed[states] = completed[states] & completed[states | bit]
+    return completed
 
 
 def saying_of_fronts(saying, entries, first):
@@ -15,6 +53,8 @@ def saying_of_fronts(saying, entries, first):
     """
     steps = [union_tables(masks) for masks in columns_of(saying)]
     marked = marked_mask(saying)
+    # Sets from which the same rows lead to a mark count as one, which keeps the pairs few.
+    completed = completed_sets(saying) if saying.size <= MOST_COMPLETED else None
     pairs = [(0, first)]
     numbers = {pairs[0]: 0}
     table = []
@@ -22,7 +62,8 @@ def saying_of_fronts(saying, entries, first):
         front, states = pairs[len(table)]
         entry = []
         for tables, (behind, added) in zip(steps, entries[front]):
-            pair = (behind, union_at(tables, states) | added)
+            after = union_at(tables, states) | added
+            pair = (behind, after if completed is None else completed[after])
             if pair not in numbers:
                 numbers[pair] = len(pairs)
                 pairs.append(pair)

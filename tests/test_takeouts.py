@@ -5,7 +5,8 @@ from stillgrows.errors import UnknownSign
 from stillgrows.lots import Lot
 from stillgrows.meanings import saying_of_text
 from stillgrows.sayings import Saying
-from stillgrows.takeouts import one_join, one_leaving, within_joins
+from stillgrows.subsets import states_of
+from stillgrows.takeouts import completed_sets, one_join, one_leaving, within_joins
 
 HAS_A = Saying.read("ab: 1 0 -, 1 1 +")
 LONGEST = 6
@@ -83,6 +84,27 @@ class TestLeavingsAndJoins(GrowsCase):
             self.refuses(UnknownSign, "d", call, HAS_A, Lot.of("aac", "bd"))
             self.refuses(UnknownSign, "c", call, Saying.void("ab"), Lot.of("c"))
         self.refuses(UnknownSign, "c", within_joins, HAS_A, Lot.of("c"), most=0)
+
+    def test_completed_sets(self):
+        rng = seeded(136)
+        for size in (1, 2, 3, 4, 5):
+            for saying in (random_saying(rng, "ab", size), permuting(rng, "ab", size)):
+                rows = {state: set(row for row in all_rows("ab", 9) if saying.marks[saying.state_after(row, state)])
+                        for state in range(saying.size)}
+                for states, found in enumerate(completed_sets(saying)):
+                    led = set().union(*(rows[state] for state in states_of(states)))
+                    self.assertEqual(states_of(found), [state for state in rows if rows[state] <= led])
+
+    def test_more_than_16_states(self):
+        rng = seeded(137)
+        saying, lot = random_saying(rng, "ab", 18), Lot.of("a", "bab")
+        path = [[min(state + 1, 19), state] for state in range(20)]
+        longer = Saying("ab", path, [state == 19 for state in range(20)])
+        for one in (saying, longer):
+            joins, leavings = one_join(one, lot), one_leaving(one, lot)
+            for row in all_rows("ab", 5) + ["a" * 18, "a" * 19, "a" * 20, "ba" * 10]:
+                self.assertEqual(row in joins, any(other in one for other in joined(row, lot.groups)))
+                self.assertEqual(row in leavings, any(other in one for other in without_one(row, lot.groups)))
 
     def test_16_states(self):
         rng = seeded(134)
