@@ -102,7 +102,7 @@ def shared_counts(station, depth):
     found = {}
     for _ in range(depth):
         longer = {known_past(station, own, index): True for index in others}
-        for counts in found:
+        for counts in list(found):
             for index in range(station.count):
                 longer[known_past(station, counts, index)] = True
         found = longer

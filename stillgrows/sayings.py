@@ -81,7 +81,7 @@ class Saying:
     def step(self, state, sign):
         """Return the state after the sign."""
         check_row(sign, self.signs)
-        return self.table[state][self.signs.index(sign)]
+        return self.table[state][self.signs.find(sign)]
 
     def state_after(self, row, state=0):
         """Return the state after the row, read from the given state."""

@@ -151,7 +151,7 @@ def block_numbers(table, marks):
             sizes[number] = sizes[number] + 1
             blocks[state] = unused + number
         mixed = [state for state, number in zip(mixed, found) if sizes[number] > 1]
-        mixed_blocks = many - sizes.count(1)
+        mixed_blocks = many - len([size for size in sizes if size == 1])
         unused = unused + many
     dense, many = numbered([blocks])
     return divided_blocks(table, dense, many)

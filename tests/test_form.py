@@ -22,7 +22,11 @@ class Package:
         self.methods = {}
         self.makers = {}
         self.roots = []
+        # The names by which objects hold something.
+        self.attributes = set()
         for tree in trees:
+            self.attributes.update(node.attr for node in ast.walk(tree)
+                                   if isinstance(node, ast.Attribute) and not isinstance(node.ctx, ast.Load))
             for node in tree.body:
                 if isinstance(node, ast.FunctionDef):
                     self.functions[node.name] = node
@@ -86,6 +90,33 @@ def changed_things(function):
             yield node.value
 
 
+def calls_of_held(package):
+    """Calls by a name by which objects hold something, in what operators run."""
+    for function in package.run_by_operators():
+        for node in ast.walk(function):
+            if (isinstance(node, ast.Call) and isinstance(node.func, ast.Attribute)
+                    and node.func.attr in package.attributes):
+                yield function.name, node.lineno
+
+
+def changed_in_loops(function):
+    """Loops that go over a name which they change, or which is given the same thing as a name that they change."""
+    alike = {}
+    for node in ast.walk(function):
+        if isinstance(node, ast.Assign) and isinstance(node.value, ast.Name):
+            for target in node.targets:
+                if isinstance(target, ast.Name):
+                    alike.setdefault(target.id, set()).add(node.value.id)
+                    alike.setdefault(node.value.id, set()).add(target.id)
+    for node in ast.walk(function):
+        if isinstance(node, ast.For) and isinstance(node.iter, ast.Name):
+            names = {node.iter.id} | alike.get(node.iter.id, set())
+            for row in node.body:
+                for thing in changed_things(row):
+                    if isinstance(thing, ast.Name) and thing.id in names:
+                        yield function.name, thing.lineno
+
+
 def faults(package):
     found = []
     for function in package.run_by_operators():
@@ -104,6 +135,23 @@ class TestForm(unittest.TestCase):
         names = {node.name for node in package.run_by_operators()}
         self.assertLessEqual({"canonical", "divided_blocks", "paired", "check_row", "in_row_order"}, names)
         self.assertEqual(faults(package), [])
+        self.assertLessEqual({"count", "index", "start"}, package.attributes)
+        self.assertEqual(list(calls_of_held(package)), [])
+
+    def test_no_loop_changes_what_it_goes_over(self):
+        for file in sorted(FOLDER.glob("*.py")):
+            for node in ast.walk(ast.parse(file.read_text())):
+                if isinstance(node, ast.FunctionDef):
+                    self.assertEqual(list(changed_in_loops(node)), [], file.name)
+        form = "def put(found):\n    for at in {}:\n        longer[at] = 1\n    found = longer\n"
+        for walked, many in (("found", 1), ("longer", 1), ("list(found)", 0), ("other", 0)):
+            self.assertEqual(len(list(changed_in_loops(ast.parse(form.format(walked)).body[0]))), many, walked)
+
+    def test_that_calls_of_held_things_are_found(self):
+        form = ("class Box:\n    def __init__(self):\n        self.many = 1\n"
+                "    def __len__(self):\n        return {}\n")
+        for worth, many in (("self.rows.many(1)", 1), ("self.many", 0), ("self.rows.few(1)", 0)):
+            self.assertEqual(len(list(calls_of_held(Package([ast.parse(form.format(worth))])))), many, worth)
 
     def test_that_faults_are_found(self):
         form = "class Box:\n    def __and__(self, other):\n        return put(self)\ndef put(rows):\n    {}\n"
