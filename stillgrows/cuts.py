@@ -3,7 +3,7 @@
 from stillgrows.errors import WrongCount
 from stillgrows.placing import row_of
 from stillgrows.spreads import plain_spread
-from stillgrows.stations import check_station
+from stillgrows.stations import check_station, verdict_for
 from stillgrows.verdicts import verdict
 
 
@@ -90,8 +90,7 @@ def known_row(station, path):
 
 def known_verdict(station, path, saying):
     """Return the verdict of the row along the path for the saying and the judged lot of the station."""
-    row = known_row(station, path)
-    return verdict(plain_spread(saying, station.judged_lot()), row)
+    return verdict_for(station, known_row(station, path), saying)
 
 
 def shared_counts(station, depth):

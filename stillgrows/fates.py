@@ -14,13 +14,14 @@ from stillgrows.words import check_row
 
 
 class Cores:
-    """The cores of the rows of a saying for a lot.
+    """The cores of the rows of a saying: of the ends by `lot` of all rows to which groups of `some` lead the least.
 
     What fills one gap of a row does not depend on the other gaps. So it can be as good
-    as possible in each of them, which leads each set of states to the least set.
+    as possible in each of them, which leads each set of states to the least set. The
+    groups of `some` are in the lot.
     """
 
-    def __init__(self, saying, lot):
+    def __init__(self, saying, lot, some):
         spread = plain_spread(saying, lot)
         self.signs = saying.signs
         self.marked = marked_mask(saying)
@@ -28,7 +29,7 @@ class Cores:
         # For each set of states the least set of ends that a filling leads it to.
         closures = union_tables([mask_of(entry) for entry in spread.gap])
         self.least = [union_at(closures, states) for states in range(1 << saying.size)]
-        groups = [[saying.signs.index(sign) for sign in group] for group in lot.groups]
+        groups = [[saying.signs.index(sign) for sign in group] for group in some.groups]
         while self.lessen(groups):
             pass
 
@@ -85,23 +86,23 @@ class Cores:
 
 def yes_saying(saying, lot):
     """Return the saying of the rows with the fate "yes"."""
-    return Cores(saying, lot).rows_with("yes")
+    return Cores(saying, lot, lot).rows_with("yes")
 
 
 def no_saying(saying, lot):
     """Return the saying of the rows with the fate "no"."""
-    return Cores(saying, lot).rows_with("no")
+    return Cores(saying, lot, lot).rows_with("no")
 
 
 def fate(saying, lot, row):
     """Return the fate of the row: "yes", "no" or "free"."""
-    cores = Cores(saying, lot)
+    cores = Cores(saying, lot, lot)
     return cores.fate(cores.core(check_row(row, saying.signs)))
 
 
 def core(saying, lot, row):
     """Return the core of the row, an ascending tuple of states."""
-    cores = Cores(saying, lot)
+    cores = Cores(saying, lot, lot)
     return tuple(states_of(cores.core(check_row(row, saying.signs))))
 
 

@@ -56,7 +56,12 @@ class Spread:
                 and self.moves == other.moves and self.marks == other.marks and self.gap == other.gap)
 
 
+def moves_of(saying):
+    """Return for each state and each sign the tuple of the one state behind it."""
+    return [[(to,) for to in entry] for entry in saying.table]
+
+
 def plain_spread(saying, lot):
     """Return the spread of all rows to which a row grows by the lot."""
-    moves = [[(to,) for to in entry] for entry in saying.table]
+    moves = moves_of(saying)
     return Spread(saying.signs, (0,), moves, saying.marks, gap_table(moves, lot.groups, saying.signs))

@@ -13,6 +13,11 @@ def check_station(index, count):
         raise UnknownStation(index)
 
 
+def verdict_for(station, row, saying):
+    """Return the verdict of a row for the saying and the judged lot of the station."""
+    return verdict(plain_spread(saying, station.judged_lot()), row)
+
+
 class Station:
     """A station with the calls that it has heard and those that wait at it."""
 
@@ -58,7 +63,7 @@ class Station:
 
     def tell(self, saying):
         """Return the verdict of the row for the saying and the judged lot."""
-        return verdict(plain_spread(saying, self.judged_lot()), self._row)
+        return verdict_for(self, self._row, saying)
 
     def speak(self, gap, group):
         """Make the call of this station that lets the group join at the gap, and return it."""

@@ -89,3 +89,33 @@ def saying_of_masks(signs, starts, moves, marks):
             entry.append(number[after])
         table.append(entry)
     return Saying(signs, table, [states & marks != 0 for states in sets])
+
+
+def led_into(moves, wanted):
+    """Return the mask of the states that some sign can lead into the wanted states."""
+    return mask_of([state for masks in moves for state, mask in enumerate(masks) if mask & wanted])
+
+
+def first_way(signs, starts, moves, wanted):
+    """Return the first row, in row order, that can lead a state of `starts` to a wanted one, or None.
+
+    `starts` and `wanted` are masks, and `moves` is as for `saying_of_masks`.
+    """
+    # The states that need so many signs, and not fewer, to be led to a wanted one.
+    layers = [wanted]
+    known = wanted
+    while layers[-1] & starts == 0:
+        before = led_into(moves, layers[-1]) & ~known
+        if before == 0:
+            return None
+        known = known | before
+        layers.append(before)
+    steps = [union_tables(masks) for masks in moves]
+    states = layers[-1] & starts
+    row = ""
+    for nearer in layers[-2::-1]:
+        led = [(sign, union_at(tables, states) & nearer) for sign, tables in zip(signs, steps)]
+        least = [(sign, behind) for sign, behind in led if behind]
+        sign, states = least[0]
+        row = row + sign
+    return row

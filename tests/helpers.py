@@ -109,6 +109,23 @@ def grown(row, groups, longest):
     return sorted(found, key=lambda other: (len(other), other))
 
 
+def doubled(row, paced):
+    """The rows after one doubling of a paced sign."""
+    return {row[:at + 1] + row[at:] for at, sign in enumerate(row) if sign in paced}
+
+
+def grown_at_pace(row, groups, paced, longest):
+    """All rows of at most so many signs to which the row grows at the pace, with the fewest joins of each."""
+    found = {row: 0}
+    level = [row]
+    while level:
+        after = {other: found[before] + 1 for before in level
+                 for other in joined(before, groups) | doubled(before, paced)}
+        level = [other for other in after if len(other) <= longest and other not in found]
+        found.update({other: after[other] for other in level})
+    return found
+
+
 def plain_closure(moves, groups, signs, table):
     """The least closed table that contains the table, found in rounds over all states and groups."""
     entries = [set(entry) | {state} for state, entry in enumerate(table)]
@@ -133,3 +150,13 @@ def moves_of(saying):
 
 def seeded(seed):
     return random.Random(seed)
+
+
+def within_steps(row, steps, many):
+    """The rows after at most so many steps; `steps` gives the rows after one step of a row."""
+    found = {row}
+    level = {row}
+    for _ in range(many):
+        level = {other for before in level for other in steps(before)} - found
+        found |= level
+    return found
