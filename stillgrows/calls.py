@@ -3,7 +3,7 @@
 from stillgrows.digits import read_number
 from stillgrows.errors import InvalidCall, InvalidText
 from stillgrows.stamps import Stamp
-from stillgrows.words import is_letters
+from stillgrows.words import is_group
 
 RIM = (None, 0)
 MOST_STATIONS = 6
@@ -22,9 +22,7 @@ def are_good_parts(station, seen, group, anchor):
     """Tell whether the parts of a call are good."""
     if not 1 <= len(seen) <= MOST_STATIONS or not all([count >= 0 for count in seen]):
         return False
-    if not 0 <= station < len(seen) or group == "" or not is_letters(group):
-        return False
-    return is_good_anchor(anchor, seen)
+    return 0 <= station < len(seen) and is_group(group) and is_good_anchor(anchor, seen)
 
 
 def anchor_text(anchor):

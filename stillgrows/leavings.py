@@ -118,7 +118,6 @@ def verdict_through(saying, lot, row, *, most=1):
     groups left out.
     """
     check_lot(lot, saying.signs)
-    check_row(row, saying.signs)
     readings = Readings(saying, lot, most)
     gap = gap_table(readings.moves, lot.groups, saying.signs)
     reached = Spread(saying.signs, (0,), readings.moves, (), gap).ends(row)

@@ -1,6 +1,6 @@
 """Paces: signs that may be doubled, and where rows that grow at a pace lead the states."""
 
-from stillgrows.closures import check_lot, gap_table
+from stillgrows.closures import gap_table
 from stillgrows.errors import WrongCount
 from stillgrows.spreads import Spread
 from stillgrows.words import check_row
@@ -57,7 +57,6 @@ def paced_moves(saying, paced, gap):
 def paced_spread(saying, lot, paced):
     """Return the spread of all rows to which a row grows at the pace by the lot."""
     check_row(paced, saying.signs)
-    check_lot(lot, saying.signs)
     gap = tuple([(state,) for state in range(saying.size)])
     moves = paced_moves(saying, paced, gap)
     more = gap_table(moves, lot.groups, saying.signs)

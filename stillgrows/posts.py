@@ -70,7 +70,6 @@ def widest_orders(saying, row, lot):
     stands there as it is.
     """
     check_lot(lot, saying.signs)
-    check_row(row, saying.signs)
     if row not in saying:
         raise NotHolding(row)
     fillings = Fillings(saying)

@@ -1,6 +1,7 @@
 """Spreads: how sets of states go on while a row is read and grows."""
 
 from stillgrows.closures import gap_table
+from stillgrows.subsets import mask_of
 from stillgrows.words import check_row
 
 
@@ -54,6 +55,14 @@ class Spread:
     def __eq__(self, other):
         return (isinstance(other, Spread) and self.signs == other.signs and self.starts == other.starts
                 and self.moves == other.moves and self.marks == other.marks and self.gap == other.gap)
+
+
+def ending_masks(spread):
+    """Return the mask of the ends of the empty row, and for each sign the masks of the ends behind each state."""
+    columns = []
+    for column in range(len(spread.signs)):
+        columns.append([mask_of(union_of(spread.gap, entry[column])) for entry in spread.moves])
+    return mask_of(spread.first()), columns
 
 
 def moves_of(saying):

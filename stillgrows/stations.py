@@ -81,6 +81,14 @@ class Station:
         self._check(calls)
         return self._take(calls)
 
+    def copied(self):
+        """Return a new station that has heard the same, and at which the same calls wait."""
+        other = Station(self.index, self.count, self.start, self.rule, self.lot)
+        other._heard = list(self._heard)
+        other._late = {key: call for key, call in self._late.items()}
+        other._row = self._row
+        return other
+
     def _check(self, calls):
         """Raise the error of the first call that may not be handed to the station."""
         known = {call.key: call for call in self._heard + list(self._late.values())}

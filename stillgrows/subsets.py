@@ -68,11 +68,11 @@ def union_at(tables, states):
     return union
 
 
-def saying_of_masks(signs, starts, moves, marks):
-    """Return the saying of the rows that can lead a state of `starts` to a state of `marks`.
+def sets_led(starts, moves):
+    """Return the sets of states to which rows lead the set `starts`, and the table of these sets.
 
-    `starts` and `marks` are masks. `moves` has one list for each sign, with the mask of
-    the states to which the sign can lead each state.
+    The sets are masks. `moves` has one list for each sign, with the mask of the states to
+    which the sign can lead each state.
     """
     steps = [union_tables(masks) for masks in moves]
     sets = [starts]
@@ -88,6 +88,15 @@ def saying_of_masks(signs, starts, moves, marks):
                 sets.append(after)
             entry.append(number[after])
         table.append(entry)
+    return sets, table
+
+
+def saying_of_masks(signs, starts, moves, marks):
+    """Return the saying of the rows that can lead a state of `starts` to a state of `marks`.
+
+    `starts` and `marks` are masks, and `moves` is as for `sets_led`.
+    """
+    sets, table = sets_led(starts, moves)
     return Saying(signs, table, [states & marks != 0 for states in sets])
 
 
@@ -99,7 +108,7 @@ def led_into(moves, wanted):
 def first_way(signs, starts, moves, wanted):
     """Return the first row, in row order, that can lead a state of `starts` to a wanted one, or None.
 
-    `starts` and `wanted` are masks, and `moves` is as for `saying_of_masks`.
+    `starts` and `wanted` are masks, and `moves` is as for `sets_led`.
     """
     # The states that need so many signs, and not fewer, to be led to a wanted one.
     layers = [wanted]

@@ -1,16 +1,14 @@
 """The sayings of the rows that are sure, never or open, and of those that may still get somewhere."""
 
-from stillgrows.spreads import plain_spread, union_of
+from stillgrows.spreads import ending_masks, plain_spread
 from stillgrows.subsets import mask_of, saying_of_masks
 
 
 def ending_saying(spread, mark):
     """Return the saying of the rows of which some end has the mark."""
-    columns = []
-    for column in range(len(spread.signs)):
-        columns.append([mask_of(union_of(spread.gap, entry[column])) for entry in spread.moves])
+    first, columns = ending_masks(spread)
     marks = mask_of([state for state, found in enumerate(spread.marks) if found == mark])
-    return saying_of_masks(spread.signs, mask_of(spread.first()), columns, marks)
+    return saying_of_masks(spread.signs, first, columns, marks)
 
 
 def sure_of(spread):

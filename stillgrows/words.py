@@ -19,9 +19,14 @@ def check_signs(signs):
     return signs
 
 
+def is_group(text):
+    """Tell whether the text is a group."""
+    return text != "" and is_letters(text)
+
+
 def check_group(group):
     """Return the group, or raise InvalidGroup."""
-    if group == "" or not is_letters(group):
+    if not is_group(group):
         raise InvalidGroup(group)
     return group
 
@@ -32,6 +37,11 @@ def check_row(row, signs):
         if sign not in signs:
             raise UnknownSign(sign)
     return row
+
+
+def row_text(row):
+    """Return the row as lines of texts show it."""
+    return row or "-"
 
 
 def turned(row):
