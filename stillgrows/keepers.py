@@ -32,7 +32,7 @@ def leading_well(saying, is_good):
 
 def keeping(saying):
     """Return the saying of the rows that fit anywhere into the saying."""
-    states = range(saying.size)
+    states = list(range(saying.size))
     return leading_well(saying, [[is_followed(saying, state, other) for other in states] for state in states])
 
 
@@ -41,7 +41,7 @@ def neutral(saying):
 
     The table is canonical, so they are the rows that lead each state to itself.
     """
-    states = range(saying.size)
+    states = list(range(saying.size))
     return leading_well(saying, [[state == other for other in states] for state in states])
 
 
@@ -60,6 +60,7 @@ def widest_lot(saying, *, longest=2):
     fits = keeping(saying)
     lot = Lot([])
     for row in rows_up_to(saying.signs, longest):
-        if row != "" and row in fits and not comes("", row, lot):
+        # The empty row comes from each lot, so it is never added.
+        if row in fits and not comes("", row, lot):
             lot = lot | Lot.of(row)
     return lot

@@ -1,10 +1,9 @@
 """Reports: lines of columns that show days, chains and counts."""
 
 from stillgrows.chains import all_chains, chain_saying
-from stillgrows.closures import check_lot
 from stillgrows.spreads import ending_masks, plain_spread
 from stillgrows.subsets import marked_mask, sets_led
-from stillgrows.words import check_row, row_text
+from stillgrows.words import row_text
 
 
 def rows_report(day):
@@ -26,8 +25,6 @@ def boards_report(day):
 
 def chains_report(saying, lot, row):
     """Return the report of the chains, and whether the row is in the sayings that they make."""
-    check_lot(lot, saying.signs)
-    check_row(row, saying.signs)
     lines = []
     for chain in all_chains():
         words = " ".join(chain) or "plain"
@@ -61,7 +58,6 @@ def counts_of_verdicts(saying, lot, longest):
 
 def counts_report(saying, lot, longest):
     """Return the report of how many rows of each length have each verdict."""
-    check_lot(lot, saying.signs)
     lines = ["length       sure       open      never"]
     for length, (sure, possible, never) in enumerate(counts_of_verdicts(saying, lot, longest)):
         lines.append(f"{length:>6}{sure:>11,}{possible:>11,}{never:>11,}")

@@ -1,6 +1,5 @@
 """Views: sayings with lots, compared by the verdicts that they tell."""
 
-from stillgrows.closures import check_lot
 from stillgrows.firsts import first_row
 from stillgrows.sayings import check_same_signs
 from stillgrows.sures import may_saying, sure_saying
@@ -9,8 +8,6 @@ from stillgrows.sures import may_saying, sure_saying
 def differing(saying, lot, other_saying, other_lot):
     """Return the saying of the rows of which the two views tell different verdicts."""
     check_same_signs(saying, other_saying)
-    check_lot(lot, saying.signs)
-    check_lot(other_lot, other_saying.signs)
     # A row is never if it is not even possible, so nothing but these two has to be compared.
     sure = sure_saying(saying, lot) ^ sure_saying(other_saying, other_lot)
     possible = may_saying(saying, lot) ^ may_saying(other_saying, other_lot)

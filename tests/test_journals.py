@@ -70,6 +70,14 @@ class TestJournal(GrowsCase):
             self.assertEqual(state_of(read_journal(lines[:3])), state_of(
                 Day(day.count, day.start, day.rule, day.lot, orders=day.orders)))
 
+    def test_the_empty_opening_row(self):
+        lines = ["day 3 - before oldest loose", "lot -", "orders -"]
+        day = read_journal(lines)
+        self.same((day.count, day.start, day.rule, day.lot, day.orders),
+                  (3, "", Rule("before", "oldest", "loose"), Lot([]), (Lot([]),)))
+        self.same(journal(day), lines)
+        self.same(read_journal(["day 1 - after newest whole", "lot a", "no orders", "speak 0 0 a"]).stations[0].row, "a")
+
     def test_other_texts_of_lots_and_sayings(self):
         day = read_journal(["day 1 a after oldest whole", "lot ab b ab a", "orders b a a, ab b",
                             "watch x ab: 0 0 +, 1 0 -", "speak 0 1 ab"])
@@ -90,12 +98,14 @@ class TestJournal(GrowsCase):
             self.same(read_journal([f"day {count} - after newest whole"] + OPENING[1:]).count, count)
 
     def test_bent_lots_and_orders(self):
-        for second in ("", "lot", "lot ", "lot  a", "lot a  b", "lot a ", "lot A", "lot a -", " lot a", "lots a", "lot a,b"):
+        for second in ("", "lot", "lot ", "lot  a", "lot a  b", "lot a ", "lot A", "lot a -", " lot a", "lots a", "lot a,b", "lat a",
+                       "xxx a b ab"):
             self.refuses(InvalidCommand, second, read_journal, [OPENING[0], second, "x", "y"])
         for third in ("", "no", "no orders ", " no orders", "no  orders", "orders", "orders ", "orders a", "orders a, b",
                       "orders a, b, ab, a", "orders a,b,ab", "orders a, b,ab", "orders a, b, c", "orders a, ba, a",
                       "orders a, b, A", "orders a, b, ", "orders a, , b", "orders a , b, a", "orders  a, b, a",
-                      "orders a, b, a ", "No orders", "orders -, -, bb"):
+                      "orders a, b, a ", "No orders", "orders -, -, bb",
+                      "orderz a, b, a", "xxxxxx a, b, a"):
             self.refuses(InvalidCommand, third, read_journal, OPENING[:2] + [third, "x"])
         self.same(read_journal(OPENING[:2] + ["orders -, b, ab a"]).orders, (Lot([]), Lot.of("b"), Lot.of("a", "ab")))
 

@@ -2,7 +2,7 @@ import unittest
 
 from helpers import GrowsCase, all_rows, seeded
 from stillgrows.sayings import Saying
-from stillgrows.subsets import mask_of, saying_of_masks, union_at, union_tables
+from stillgrows.subsets import first_way, mask_of, saying_of_masks, union_at, union_tables
 
 
 def plain_marked(starts, moves, marks, columns):
@@ -51,6 +51,21 @@ class TestSubsets(GrowsCase):
         adding = [1, 3] + [1 << state for state in range(2, 16)]
         taking = [0] + [1 << state for state in range(1, 16)]
         self.assertEqual(saying_of_masks("abcd", 1, [ring, exchange, adding, taking], 1).size, 65536)
+
+
+    def test_the_first_row_that_can_lead_to_a_wanted_state(self):
+        rng = seeded(32)
+        found = set()
+        for _ in range(80):
+            size = rng.randint(1, 5)
+            moves = [[[to for to in range(size) if rng.random() < 0.9 / size] for _ in range(size)] for _ in "ab"]
+            starts, wanted = [0, size - 1], [rng.randrange(size)]
+            masks = [[mask_of(states) for states in column] for column in moves]
+            row = first_way("ab", mask_of(starts), masks, mask_of(wanted))
+            rows = [other for other in all_rows("ab", 5) if plain_marked(starts, moves, wanted, ["ab".index(sign) for sign in other])]
+            self.same(row, rows[0] if rows else None)
+            found.add(row)
+        self.assertLessEqual({None, "", "a", "b"}, found)
 
 
 if __name__ == "__main__":
