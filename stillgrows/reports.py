@@ -33,6 +33,15 @@ def chains_report(saying, lot, row):
     return lines
 
 
+def ways_on(ways, table):
+    """Return how many rows lead to each state, if one sign stands behind rows that lead so in these many ways."""
+    longer = [0] * len(ways)
+    for many, entry in zip(ways, table):
+        for at in entry:
+            longer[at] += many
+    return longer
+
+
 def counts_of_verdicts(saying, lot, longest):
     """Return for each length up to `longest` how many rows are sure, how many open and how many never."""
     first, columns = ending_masks(plain_spread(saying, lot))
@@ -48,11 +57,7 @@ def counts_of_verdicts(saying, lot, longest):
         many_sure = sum([ways[at] for at in sure])
         many_never = sum([ways[at] for at in never])
         counts.append((many_sure, sum(ways) - many_sure - many_never, many_never))
-        longer = [0] * len(ends)
-        for many, entry in zip(ways, table):
-            for at in entry:
-                longer[at] += many
-        ways = longer
+        ways = ways_on(ways, table)
     return counts
 
 

@@ -12,6 +12,10 @@ OTHERS = ("__init__", "__call__", "__enter__", "__exit__", "__setitem__")
 CHANGING = ("append", "clear", "extend", "insert", "pop", "remove", "reverse", "setdefault", "sort", "update",
             "add", "discard")
 MAKERS = ("list", "dict", "sorted")
+# What goes over the things that it is given, and over a part of a dict.
+WRAPPERS = ("enumerate", "zip", "reversed")
+VIEWS = ("items", "keys", "values")
+HOLDERS = (ast.Name, ast.Attribute, ast.Subscript)
 
 
 class Package:
@@ -99,21 +103,42 @@ def calls_of_held(package):
                 yield function.name, node.lineno
 
 
-def changed_in_loops(function):
-    """Loops that go over a name which they change, or which is given the same thing as a name that they change."""
+def gone_over(worth):
+    """The texts of the things that a loop over the value goes over; a copy by `list` is another thing."""
+    if isinstance(worth, ast.Call) and isinstance(worth.func, ast.Name) and worth.func.id in WRAPPERS:
+        return {text for part in worth.args for text in gone_over(part)}
+    if isinstance(worth, ast.Call) and isinstance(worth.func, ast.Attribute) and worth.func.attr in VIEWS:
+        return {ast.unparse(worth.func.value)}
+    if isinstance(worth, ast.IfExp):
+        return gone_over(worth.body) | gone_over(worth.orelse)
+    if isinstance(worth, ast.BoolOp):
+        return {text for part in worth.values for text in gone_over(part)}
+    return {ast.unparse(worth)} if isinstance(worth, HOLDERS) else set()
+
+
+def other_names(function):
+    """For each name, attribute or item the others that are given the same thing somewhere in the function."""
     alike = {}
     for node in ast.walk(function):
-        if isinstance(node, ast.Assign) and isinstance(node.value, ast.Name):
+        if isinstance(node, ast.Assign) and isinstance(node.value, HOLDERS):
             for target in node.targets:
-                if isinstance(target, ast.Name):
-                    alike.setdefault(target.id, set()).add(node.value.id)
-                    alike.setdefault(node.value.id, set()).add(target.id)
+                one, two = ast.unparse(target), ast.unparse(node.value)
+                alike.setdefault(one, set()).add(two)
+                alike.setdefault(two, set()).add(one)
+    return alike
+
+
+def changed_in_loops(function):
+    """Loops that change what they go over, or what is given the same thing as that."""
+    alike = other_names(function)
     for node in ast.walk(function):
-        if isinstance(node, ast.For) and isinstance(node.iter, ast.Name):
-            names = {node.iter.id} | alike.get(node.iter.id, set())
+        if isinstance(node, ast.For):
+            texts = gone_over(node.iter)
+            texts |= {other for text in texts for other in alike.get(text, ())}
             for row in node.body:
                 for thing in changed_things(row):
-                    if isinstance(thing, ast.Name) and thing.id in names:
+                    text = ast.unparse(thing)
+                    if any(other == text or other.startswith((text + "[", text + ".")) for other in texts):
                         yield function.name, thing.lineno
 
 
@@ -144,7 +169,9 @@ class TestForm(unittest.TestCase):
                 if isinstance(node, ast.FunctionDef):
                     self.assertEqual(list(changed_in_loops(node)), [], file.name)
         form = "def put(found):\n    for at in {}:\n        longer[at] = 1\n    found = longer\n"
-        for walked, many in (("found", 1), ("longer", 1), ("list(found)", 0), ("other", 0)):
+        for walked, many in (("found", 1), ("longer", 1), ("list(found)", 0), ("other", 0), ("found.items()", 1),
+                             ("zip(other, found)", 1), ("enumerate(longer)", 1), ("zip(other, list(found))", 0),
+                             ("found or other", 1), ("longer[0]", 1), ("found[0]", 0), ("range(len(longer))", 0)):
             self.assertEqual(len(list(changed_in_loops(ast.parse(form.format(walked)).body[0]))), many, walked)
 
     def test_that_calls_of_held_things_are_found(self):
